@@ -1,0 +1,1 @@
+"""Rows of whole numbers made trim, and the shortest row that they make."""

@@ -1,0 +1,1 @@
+"""The program refuses nothing, so it has no errors of its own."""
