@@ -4,12 +4,27 @@ import importlib
 import inspect
 import unittest
 
-# What has landed; each further stage adds its own.
 FUNCTIONS = {
     "trimrows.things": {
         "are_rows": ["thing"],
         "product": ["one", "other"],
         "made_by": ["rows", "weights"],
+    },
+    "trimrows.uprights": {
+        "shares": ["rows"],
+        "heights": ["rows"],
+        "volumes": ["rows"],
+        "are_trim": ["rows"],
+    },
+    "trimrows.trimming": {
+        "trim": ["rows"],
+    },
+    "trimrows.making": {
+        "weights_of": ["rows", "row"],
+        "near": ["rows", "row"],
+    },
+    "trimrows.shortest": {
+        "shortest": ["rows"],
     },
 }
 
